@@ -1,0 +1,1 @@
+"""Post codes: districts parted anew, codes that stay, old ones read for a while."""
