@@ -1,38 +1,20 @@
-"""The calls on a town: each takes its arguments and gives back its answer, or raises a refusal.
+"""The calls that change a town: each takes its arguments and gives back its answer, or raises a refusal.
 
 All that may be refused is asked before anything is changed.
 """
 
 from postdistricts.codebook import NO_CODE, codes_of, give_code, retire_codes
-from postdistricts.partings import codes_by_point, count_kept, make_plan, might_be
+from postdistricts.common import GREATEST_NUMBER, as_row, check_range, find_point
+from postdistricts.partings import codes_by_point, count_kept, make_plan
 from postdistricts.records import Point
-from postdistricts.refusals import NoSuchPoint, NotAsTold, NotInRange, TooMany
+from postdistricts.refusals import TooMany
 
 MOST_POINTS = 40
-GREATEST_NUMBER = 1000000
 GREATEST_LOAD = 1000000
 GREATEST_CAP = 1000000
 GREATEST_GRACE = 1000
 MOST_DAYS = 1000
 LAST_DAY = 100000
-GREATEST_JUDGED = 1000
-
-
-def as_row(numbers):
-    return [len(numbers)] + numbers
-
-
-def check_range(number, least, greatest):
-    if number < least or number > greatest:
-        raise NotInRange()
-
-
-def find_point(town, number):
-    check_range(number, 1, GREATEST_NUMBER)
-    for point in town.points:
-        if point.number == number:
-            return point
-    raise NoSuchPoint()
 
 
 def begin_anew(town, grace, cap):
@@ -92,14 +74,6 @@ def pass_days(town, days):
     return [town.day]
 
 
-def tell_plan(town):
-    districts = make_plan(town)
-    told = []
-    for size, code in districts:
-        told.extend([size, code])
-    return [len(districts)] + as_row([count_kept(town.points, districts)]) + as_row(told)
-
-
 def adopt_plan(town):
     districts = make_plan(town)
     moved = len(town.points) - count_kept(town.points, districts)
@@ -107,18 +81,3 @@ def adopt_plan(town):
     for point, code in zip(town.points, codes_by_point(districts)):
         give_code(town, point, code)
     return [moved] + as_row([len(districts), retire_codes(town, codes_before)])
-
-
-def judge_parting(town, sizes, codes):
-    for number in sizes + codes:
-        if number < 0 or number > GREATEST_JUDGED:
-            raise NotAsTold()
-    if not might_be(town, sizes, codes):
-        return [0]
-    districts = list(zip(sizes, codes))
-    return [1] + as_row([len(districts), count_kept(town.points, districts)])
-
-
-def tell_code(town, number):
-    point = find_point(town, number)
-    return [point.code] + as_row([point.since, point.load])

@@ -48,6 +48,47 @@ def code(number):
     return [9, number]
 
 
+def district(number):
+    return [10, number]
+
+
+def read(number, signs):
+    return [11, number, len(signs)] + list(signs)
+
+
+def text(number):
+    return [12, number]
+
+
+def check(signs):
+    return [13, len(signs)] + list(signs)
+
+
+def history(number):
+    return [14, number]
+
+
+def retired():
+    return [15]
+
+
+def row():
+    return [16]
+
+
+def free(count):
+    return [17, count]
+
+
+def counts():
+    return [18]
+
+
+def signs_of(written):
+    """The bytes of a text."""
+    return list(written.encode("latin-1"))
+
+
 def joined(calls):
     return [number for call in calls for number in call]
 
@@ -70,6 +111,10 @@ def ask(calls):
 
 def last(calls):
     return ask(calls)[-1]
+
+
+def told_row(numbers):
+    return [len(numbers)] + list(numbers)
 
 
 def told_plan(districts, kept):
@@ -154,30 +199,45 @@ def slow_districts(codes, loads, limit):
     return list(zip(*left[0])), max(kept)
 
 
+CALL_NAMES = """begin point load remove cap day plan adopt judge code
+    district read text check history retired row free counts""".split()
+
+
+def written_code(number):
+    first, second, third = [int(digit) for digit in str(number)]
+    return str(number) + "ABCDEFGHIJK"[(first + second + second + third + third + third) % 11]
+
+
+CODES_BY_TEXT = {written_code(number): number for number in range(100, 1000)}
+
+
 class SlowTown:
-    """The calls 0 to 9 once more, by the words of the document, without a thought for speed."""
+    """All calls once more, by the words of the document, without a thought for speed."""
 
     def __init__(self):
         self.start(30, 100)
 
     def start(self, grace, limit):
         self.today, self.grace, self.limit = 0, grace, limit
-        self.row, self.gone, self.following = [], [], 1
+        self.standing, self.gone, self.following = [], [], 1
 
     def answer(self, call):
-        names = ["begin", "point", "load", "remove", "cap", "day", "plan", "adopt", "judge", "code"]
         if call[0] == 8:
             sizes = call[2:2 + call[1]]
             return self.judge(sizes, call[3 + call[1]:])
-        return getattr(self, names[call[0]])(*call[1:])
+        if call[0] == 11:
+            return self.read(call[1], call[3:])
+        if call[0] == 13:
+            return self.check(call[2:])
+        return getattr(self, CALL_NAMES[call[0]])(*call[1:])
 
     def find(self, number):
         if not 1 <= number <= 1000000:
             return -1
-        return next((one for one in self.row if one["number"] == number), -4)
+        return next((one for one in self.standing if one["number"] == number), -4)
 
     def codes(self):
-        return [one["code"] for one in self.row]
+        return [one["code"] for one in self.standing]
 
     def retire(self, before):
         lost = [one for one in dict.fromkeys(before) if one != 0 and one not in self.codes()]
@@ -187,7 +247,7 @@ class SlowTown:
     def may_give(self, one):
         if not 100 <= one <= 999 or one in self.codes():
             return False
-        had = [(old, until) for each in self.row for old, since, until in each["had"]]
+        had = [(old, until) for each in self.standing for old, since, until in each["had"]]
         return all(self.today > until + self.grace for old, until in had + self.gone if old == one)
 
     def begin(self, grace, limit):
@@ -197,13 +257,13 @@ class SlowTown:
         return [0]
 
     def point(self, place, weight):
-        if not 0 <= place <= len(self.row) or not 0 <= weight <= 1000000:
+        if not 0 <= place <= len(self.standing) or not 0 <= weight <= 1000000:
             return [-1]
-        if len(self.row) == 40:
+        if len(self.standing) == 40:
             return [-8]
-        beside = self.row[max(place - 1, 0)]["code"] if self.row else 0
+        beside = self.standing[max(place - 1, 0)]["code"] if self.standing else 0
         one = {"number": self.following, "load": weight, "code": beside, "since": self.today, "had": []}
-        self.row = self.row[:place] + [one] + self.row[place:]
+        self.standing = self.standing[:place] + [one] + self.standing[place:]
         self.following += 1
         return [one["number"]]
 
@@ -221,7 +281,7 @@ class SlowTown:
         if isinstance(one, int):
             return [one]
         before = self.codes()
-        self.row.remove(one)
+        self.standing.remove(one)
         self.retire(before)
         return [one["code"]]
 
@@ -240,7 +300,7 @@ class SlowTown:
         return [self.today]
 
     def planned(self):
-        loads = [one["load"] for one in self.row]
+        loads = [one["load"] for one in self.standing]
         if any(one > self.limit for one in loads):
             return None
         districts, kept = slow_districts(self.codes(), loads, self.limit)
@@ -258,7 +318,7 @@ class SlowTown:
         districts, kept = found
         before = self.codes()
         by_point = [label for size, label in districts for _ in range(size)]
-        for one, label in zip(self.row, by_point):
+        for one, label in zip(self.standing, by_point):
             if one["code"] != label:
                 if one["code"] != 0:
                     one["had"].append((one["code"], one["since"], self.today))
@@ -268,7 +328,7 @@ class SlowTown:
     def judge(self, sizes, codes):
         if any(not 0 <= one <= 1000 for one in sizes + codes):
             return [-2]
-        loads = [one["load"] for one in self.row]
+        loads = [one["load"] for one in self.standing]
         fits = len(sizes) == len(codes) and sum(sizes) == len(loads) and all(one > 0 for one in sizes)
         fits = fits and len(codes) == len(set(codes)) and is_borne(loads, sizes, self.limit)
         fits = fits and all(one != 0 and one in self.codes() or self.may_give(one) for one in codes)
@@ -277,3 +337,48 @@ class SlowTown:
     def code(self, number):
         one = self.find(number)
         return [one] if isinstance(one, int) else [one["code"], 2, one["since"], one["load"]]
+
+    def district(self, number):
+        if not 100 <= number <= 999:
+            return [-1]
+        there = [one for one in self.standing if one["code"] == number]
+        return [len(there)] + told_row([one["number"] for one in there]) + [1, sum(one["load"] for one in there)]
+
+    def read(self, number, signs):
+        one = self.find(number)
+        if isinstance(one, int):
+            return [one]
+        told = self.check(signs)[0]
+        if told == 0:
+            return [-2]
+        had = any(old == told and self.today <= until + self.grace for old, since, until in one["had"])
+        return [1 if told == one["code"] else 2 if had else 0, 1, one["code"]]
+
+    def text(self, number):
+        return [0] + told_row(signs_of(written_code(number))) if 100 <= number <= 999 else [-1]
+
+    def check(self, signs):
+        return [CODES_BY_TEXT.get(bytes(signs).decode("latin-1"), 0)]
+
+    def history(self, number):
+        one = self.find(number)
+        if isinstance(one, int):
+            return [one]
+        return [len(one["had"])] + joined(told_row(old) for old in one["had"])
+
+    def retired(self):
+        return [len(self.gone)] + told_row(joined(self.gone))
+
+    def row(self):
+        numbers = [(one["number"], one["load"], one["code"]) for one in self.standing]
+        return [len(numbers)] + told_row(joined(numbers))
+
+    def free(self, count):
+        if not 1 <= count <= 50:
+            return [-1]
+        least = [one for one in range(100, 1000) if self.may_give(one)][:count]
+        return [len(least)] + told_row(least)
+
+    def counts(self):
+        codes = set(self.codes()) - {0}
+        return [self.today, 6, self.grace, self.limit, len(self.standing), len(codes), len(self.gone), self.following]

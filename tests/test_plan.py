@@ -5,7 +5,8 @@ import unittest
 from helper import adopt, ask, begin, cap, code, day, judge, last, load, numbers_in_order, plan, point
 from helper import points_behind_one_another, remove, told_plan, town_with_stretches
 
-from postdistricts.actions import adopt_plan, tell_plan
+from postdistricts.actions import adopt_plan
+from postdistricts.questions import tell_plan
 from postdistricts.records import Point, Town
 from postdistricts.refusals import NoPlan, TooMany
 
@@ -229,7 +230,7 @@ class Adopt(unittest.TestCase):
 
 class RetiredInOrder(unittest.TestCase):
     def test_several_in_the_order_of_their_points(self):
-        # No call of these tells the order, so the town is looked into.
+        # Set up by hand, so that the codes out of order and what each point had are seen at once.
         town = Town(30, 3)
         for number, one in enumerate([102, 100, 101], start=1):
             town.points.append(Point(number, 1, one, 0))

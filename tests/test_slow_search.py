@@ -4,8 +4,11 @@ import functools
 import random
 import unittest
 
-from helper import SlowTown, adopt, all_sizes, ask, begin, cap, code, day, judge, last, load, numbers_in_order
-from helper import plan, point, remove, slow_districts, told_plan, town_with_stretches
+from helper import SlowTown, adopt, all_sizes, ask, begin, cap, check, code, counts, day, district, free, history
+from helper import joined, judge, last, load, numbers_in_order, plan, point, read, remove, retired, row, signs_of
+from helper import slow_districts, text, told_plan, town_with_stretches, written_code
+
+from postdistricts.town import answers
 
 
 def codes_on(lengths):
@@ -73,41 +76,85 @@ class SlowSearch(unittest.TestCase):
             self.check(lengths, loads, limit, middling_search)
 
 
-def random_call(chance, count):
-    number = chance.randint(1, count + 2)
+def random_change(chance, number):
+    return chance.choice([
+        point(chance.randint(0, 5), chance.randint(0, 4)), point(chance.randint(0, 3), chance.randint(-1, 3)),
+        point(0, chance.randint(0, 4)), load(number, chance.randint(0, 5)), remove(number),
+        cap(chance.randint(3, 9)), cap(chance.randint(0, 5)), day(chance.randint(0, 2)), adopt(), adopt(), adopt(),
+    ])
+
+
+def random_parting(chance, count):
     sizes = chance.choice(all_sizes(min(count, 5))) if chance.random() < 0.8 else [chance.randint(-1, 4)]
     codes = [chance.choice((100, 101, 102, 103, 104, 105, 999)) for _ in sizes]
     if chance.random() < 0.5:
         codes = chance.sample(range(100, 108), len(sizes))
+    return judge(sizes, codes)
+
+
+def random_text(chance):
+    signs = signs_of(written_code(chance.choice((100, 101, 102, 103, 104, 105, 106, 999))))
+    if chance.random() < 0.2:
+        signs[chance.randint(0, 3)] = chance.randint(47, 80)
+    return signs[:chance.randint(0, 4)] if chance.random() < 0.1 else signs
+
+
+def random_question(chance, number, count):
+    some_code = chance.choice((99, 100, 101, 102, 103, 104, 999, 1000))
     return chance.choice([
-        point(chance.randint(0, 5), chance.randint(0, 4)), point(chance.randint(0, 3), chance.randint(-1, 3)),
-        point(0, chance.randint(0, 4)), load(number, chance.randint(0, 5)), remove(number), remove(number),
-        cap(chance.randint(3, 9)), day(chance.randint(0, 2)), plan(), adopt(), adopt(), judge(sizes, codes),
-        judge(sizes, codes), code(number), code(number), cap(chance.randint(0, 5)),
+        plan(), random_parting(chance, count), random_parting(chance, count), code(number), district(some_code),
+        read(number, random_text(chance)), read(number, random_text(chance)), text(some_code),
+        check(random_text(chance)), history(number), history(number), retired(), row(), counts(),
+        free(chance.choice((0, 1, 3, 10, 50, 51))),
     ])
 
 
+def random_line(chance, length):
+    """A line and its slow answers, with at most six points at a time, and at most 40 plans and adoptions."""
+    slow = SlowTown()
+    calls = [begin(chance.randint(0, 3), chance.randint(3, 7))]
+    expected = [slow.answer(calls[0])]
+    partings = 0
+    while len(calls) < length:
+        numbers = [one["number"] for one in slow.standing]
+        if not numbers or chance.random() < 0.2:
+            numbers = [-1, 0, slow.following, slow.following + 1] + list(range(1, slow.following))
+        number = chance.choice(numbers)
+        call = random_change(chance, number)
+        if chance.random() < 0.5:
+            call = random_question(chance, number, len(slow.standing))
+        if call[0] == 1 and len(slow.standing) == 6 or call[0] in (6, 7) and partings == 40:
+            continue
+        partings += call[0] in (6, 7)
+        calls.append(call)
+        expected.append(slow.answer(call))
+    return calls, expected
+
+
 class WholeLines(unittest.TestCase):
-    def random_line(self, chance):
-        """A line and its slow answers, with at most six points at a time."""
-        slow = SlowTown()
-        calls = [begin(chance.randint(0, 3), chance.randint(3, 7))]
-        expected = [slow.answer(calls[0])]
-        while len(calls) < 60:
-            call = random_call(chance, slow.following - 1 if slow.row and chance.random() < 0.3 else len(slow.row))
-            if call[0] == 1 and len(slow.row) == 6:
-                continue
-            if slow.row and call[0] in (2, 3, 9) and chance.random() < 0.7:
-                call[1] = chance.choice(slow.row)["number"]
-            calls.append(call)
-            expected.append(slow.answer(call))
+    def check(self, chance, length):
+        calls, expected = random_line(chance, length)
+        handed_in = joined(calls)
+        self.assertEqual(ask(calls), expected, calls)
+        first = answers(handed_in)
+        self.assertEqual(handed_in, joined(calls))
+        self.assertEqual(answers(handed_in), first)
         return calls, expected
 
-    def test_against_the_slow_town(self):
+    def test_lines_of_60_calls(self):
         chance = random.Random(3)
-        for _ in range(150):
-            calls, expected = self.random_line(chance)
-            self.assertEqual(ask(calls), expected, calls)
+        for _ in range(200):
+            self.check(chance, 60)
+
+    def test_lines_of_400_calls(self):
+        chance = random.Random(5)
+        met = set()
+        for _ in range(10):
+            calls, expected = self.check(chance, 400)
+            met |= {(call[0], answer[0]) for call, answer in zip(calls, expected)}
+        # Else the lines would not say much: each call, and each way in which a code is read, is among them.
+        self.assertEqual({number for number, answer in met}, set(range(19)))
+        self.assertEqual({answer for number, answer in met if number == 11}, {1, 2, 0, -1, -4, -2})
 
 
 class LargeTowns(unittest.TestCase):
